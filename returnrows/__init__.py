@@ -1,0 +1,1 @@
+"""Returnrows: endless rows by the words by which they come back."""

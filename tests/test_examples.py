@@ -1,0 +1,35 @@
+"""The examples of the document, as they stand there, and those of the README."""
+
+import doctest
+import pathlib
+import unittest
+
+ROWS_AND_PLACES = '''
+>>> from returnrows.places import count_to, letter_at, piece
+>>> from returnrows.rows import Row
+>>> fib, twin = Row([[0, 1], [0]]), Row([[0, 1], [1, 0]])
+>>> [letter_at(fib, 5), piece(fib, 3, 5), count_to(fib, 1, 8), letter_at(twin, 2 ** 99), letter_at(twin, 2 ** 98 - 1), count_to(twin, 1, 2 ** 99) == 2 ** 98, fib.rules, fib == Row([[0, 1], [0]])]
+[0, [0, 1, 0, 1, 0], 3, 1, 0, True, [[0, 1], [0]], True]
+'''
+
+
+class ExamplesTest(unittest.TestCase):
+    def assert_holds(self, text, name):
+        examples = doctest.DocTestParser().get_doctest(text, {}, name, None, 0)
+        self.assertGreater(len(examples.examples), 0)
+        told = []
+        result = doctest.DocTestRunner(verbose=False).run(examples, out=told.append)
+        self.assertEqual(result.failed, 0, "".join(told))
+
+    def test_rows_and_places(self):
+        self.assert_holds(ROWS_AND_PLACES, "rows and places")
+
+    def test_readme(self):
+        readme = pathlib.Path(__file__).resolve().parent.parent / "README.md"
+        # A fence would be taken for a part of the answer above it.
+        lines = [line for line in readme.read_text(encoding="utf-8").split("\n") if not line.startswith("```")]
+        self.assert_holds("\n".join("" if line.startswith("#") else line for line in lines), "README")
+
+
+if __name__ == "__main__":
+    unittest.main()
