@@ -67,7 +67,8 @@ class ErrorsTest(unittest.TestCase):
 
     def test_value_is_stored_itself_whatever_it_is(self):
         for error in all_classes():
-            for value in (None, 0, False, -10 ** 30, "", "a text", [], [[1], 2], (1, 2), {"a": []}, object(), Strange()):
+            for value in (None, 0, False, -10 ** 30, "", "a text", [], [[1], 2], (1, 2), {"a": []}, object(),
+                          Strange()):
                 with self.subTest(error=error):
                     self.assertIs(error(value).value, value)
                     self.assertIs(error(value=value).value, value)

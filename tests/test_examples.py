@@ -12,6 +12,25 @@ ROWS_AND_PLACES = '''
 [0, [0, 1, 0, 1, 0], 3, 1, 0, True, [[0, 1], [0]], True]
 '''
 
+RETURNS_AND_LEVELS = '''
+>>> from returnrows.levels import ladder, level, widths
+>>> from returnrows.returns import return_row, return_rules, returns
+>>> from returnrows.rows import Row
+>>> fib, twin = Row([[0, 1], [0]]), Row([[0, 1], [1, 0]])
+>>> [returns(fib), return_rules(fib), returns(twin), return_rules(twin), return_row(twin).rules, level(twin, 2).rules, ladder(fib), ladder(twin), widths(twin), returns(Row([[0, 0]])), ladder(Row([[0, 0]]))]
+[[[0, 1], [0]], [[0, 1], [0]], [[0, 1, 1], [0, 1], [0]], [[0, 1, 2], [0, 2], [1]], [[0, 1, 2], [0, 2], [1]], [[0, 1], [2, 3], [0, 1, 3], [2]], (0, 1), (2, 1), [2, 3, 4], [[0]], (0, 1)]
+'''
+
+PARTING_AND_PERIODS = '''
+>>> from returnrows.levels import level
+>>> from returnrows.parting import alike, are_equal, kin, parting
+>>> from returnrows.periods import is_periodic, period
+>>> from returnrows.rows import Row
+>>> fib, twin = Row([[0, 1], [0]]), Row([[0, 1], [1, 0]])
+>>> [parting(fib, Row([[0, 1, 0], [1, 0]])), parting(fib, Row([[0, 1, 0], [0, 1]])), are_equal(fib, twin), alike(Row([[0, 1], [0, 2], [0]]), Row([[0, 2], [0], [0, 1]])), kin(twin, level(twin, 1)), kin(fib, fib), period(Row([[0, 1, 0], [1, 0, 1]])), period(fib), period(Row([[0, 0]])), is_periodic(twin)]
+[(3, 0, 1), None, False, True, (1, 0), (0, 0), [0, 1], None, [0], False]
+'''
+
 
 class ExamplesTest(unittest.TestCase):
     def assert_holds(self, text, name):
@@ -23,6 +42,12 @@ class ExamplesTest(unittest.TestCase):
 
     def test_rows_and_places(self):
         self.assert_holds(ROWS_AND_PLACES, "rows and places")
+
+    def test_returns_and_levels(self):
+        self.assert_holds(RETURNS_AND_LEVELS, "returns and levels")
+
+    def test_parting_and_periods(self):
+        self.assert_holds(PARTING_AND_PERIODS, "parting and periods")
 
     def test_readme(self):
         readme = pathlib.Path(__file__).resolve().parent.parent / "README.md"

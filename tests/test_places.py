@@ -9,14 +9,10 @@ from returnrows import places
 from returnrows.errors import InvalidLetter, InvalidNumber
 from returnrows.places import count_to, letter_at, piece
 from returnrows.rows import Row
+from samples import FIB, RING, TWIN, TWO_LONG, Raising, grown
 
 FAR = 10 ** 30
-FIB = [[0, 1], [0]]
-TWIN = [[0, 1], [1, 0]]
 DOUBLING = [[0, 1], [0, 0]]
-RING = [[0, 1]] + [[(letter + 1) % 70] for letter in range(1, 70)]
-TWO_LONG = [[0, 1]] + [[(letter + 1) % 70] for letter in range(1, 35)] + [[36, 0]] + \
-    [[(letter + 1) % 70] for letter in range(36, 70)]
 SAMPLES = [
     FIB, TWIN, DOUBLING, RING, TWO_LONG,
     [[0, 0]],
@@ -30,14 +26,6 @@ SAMPLES = [
     # [[0, 1], [0, 2], [0]], two steps at once
     [[0, 1, 0, 2], [0, 1, 0], [0, 1]],
 ]
-
-
-def grown(rules, length):
-    """The begin of a row, by steps from the letter 0."""
-    word = [0]
-    while len(word) < length:
-        word = [following for letter in word for following in rules[letter]]
-    return word[:length]
 
 
 def fib_ones(place):
@@ -174,13 +162,7 @@ class FarTest(unittest.TestCase):
             self.assertLess(time.perf_counter() - before, 5)
 
 
-class WrongArgumentsTest(unittest.TestCase):
-    def assert_error(self, error, value, function, *arguments):
-        with self.assertRaises(error) as caught:
-            function(*arguments)
-        self.assertIs(type(caught.exception), error)
-        self.assertEqual(caught.exception.value, value)
-
+class WrongArgumentsTest(Raising):
     def test_letter_at(self):
         for place in (-1, -2, -FAR):
             self.assert_error(InvalidNumber, place, letter_at, Row(FIB), place)

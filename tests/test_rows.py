@@ -7,12 +7,7 @@ from unittest import mock
 
 from returnrows.errors import InvalidLetter, InvalidNumber, InvalidRules, NotMixed
 from returnrows.rows import Row
-
-FIB = [[0, 1], [0]]
-TWIN = [[0, 1], [1, 0]]
-RING = [[0, 1]] + [[(letter + 1) % 70] for letter in range(1, 70)]
-TWO_LONG = [[0, 1]] + [[(letter + 1) % 70] for letter in range(1, 35)] + [[36, 0]] + \
-    [[(letter + 1) % 70] for letter in range(36, 70)]
+from samples import FIB, RING, TWIN, TWO_LONG, Raising
 
 
 def mixed_by_its_words(rules):
@@ -33,69 +28,63 @@ def all_words(letters, longest):
             yield list(word)
 
 
-class Raising(unittest.TestCase):
-    def assert_error(self, error, value, rules):
+class WrongRulesTest(Raising):
+    def assert_wrong(self, error, value, rules):
         before = copy.deepcopy(rules)
-        with self.assertRaises(error) as caught:
-            Row(rules)
-        self.assertIs(type(caught.exception), error)
-        self.assertIs(type(caught.exception.value), int)
-        self.assertEqual(caught.exception.value, value)
+        self.assert_error(error, value, Row, rules)
         self.assertEqual(rules, before)
 
-
-class WrongRulesTest(Raising):
     def test_no_words(self):
-        self.assert_error(InvalidNumber, 0, [])
+        self.assert_wrong(InvalidNumber, 0, [])
 
     def test_the_first_empty_word_is_told_by_its_index(self):
-        self.assert_error(InvalidRules, 0, [[]])
-        self.assert_error(InvalidRules, 0, [[], [0]])
-        self.assert_error(InvalidRules, 1, [[0, 1], []])
-        self.assert_error(InvalidRules, 1, [[0, 1], [], [1], []])
-        self.assert_error(InvalidRules, 69, RING[:69] + [[]])
+        self.assert_wrong(InvalidRules, 0, [[]])
+        self.assert_wrong(InvalidRules, 0, [[], [0]])
+        self.assert_wrong(InvalidRules, 1, [[0, 1], []])
+        self.assert_wrong(InvalidRules, 1, [[0, 1], [], [1], []])
+        self.assert_wrong(InvalidRules, 69, RING[:69] + [[]])
 
     def test_the_first_number_that_is_no_letter(self):
-        self.assert_error(InvalidLetter, 2, [[0, 2], [0]])
-        self.assert_error(InvalidLetter, 1, [[0, 1]])
-        self.assert_error(InvalidLetter, 3, [[0, 1], [0, 3, 4], [5]])
-        self.assert_error(InvalidLetter, 70, RING[:69] + [[70]])
-        self.assert_error(InvalidLetter, 10 ** 30, [[0, 1], [10 ** 30]])
+        self.assert_wrong(InvalidLetter, 2, [[0, 2], [0]])
+        self.assert_wrong(InvalidLetter, 1, [[0, 1]])
+        self.assert_wrong(InvalidLetter, 3, [[0, 1], [0, 3, 4], [5]])
+        self.assert_wrong(InvalidLetter, 70, RING[:69] + [[70]])
+        self.assert_wrong(InvalidLetter, 10 ** 30, [[0, 1], [10 ** 30]])
 
     def test_negative_numbers_are_no_letters(self):
-        self.assert_error(InvalidLetter, -1, [[0, -1], [0]])
-        self.assert_error(InvalidLetter, -2, [[0, 1], [0, -2, 2]])
-        self.assert_error(InvalidLetter, -10 ** 30, [[-10 ** 30, 5], [0]])
+        self.assert_wrong(InvalidLetter, -1, [[0, -1], [0]])
+        self.assert_wrong(InvalidLetter, -2, [[0, 1], [0, -2, 2]])
+        self.assert_wrong(InvalidLetter, -10 ** 30, [[-10 ** 30, 5], [0]])
 
     def test_the_first_wrong_number_is_found_word_by_word(self):
-        self.assert_error(InvalidLetter, 9, [[0, 1, 9], [7, 0]])
-        self.assert_error(InvalidLetter, 7, [[0, 1, 1], [7, 0, 9]])
+        self.assert_wrong(InvalidLetter, 9, [[0, 1, 9], [7, 0]])
+        self.assert_wrong(InvalidLetter, 7, [[0, 1, 1], [7, 0, 9]])
 
     def test_the_word_of_0_must_begin_with_0(self):
-        self.assert_error(InvalidRules, 0, [[1, 0], [0, 1]])
-        self.assert_error(InvalidRules, 0, [[1, 1], [0]])
+        self.assert_wrong(InvalidRules, 0, [[1, 0], [0, 1]])
+        self.assert_wrong(InvalidRules, 0, [[1, 1], [0]])
 
     def test_the_word_of_0_must_not_have_one_letter_alone(self):
-        self.assert_error(InvalidRules, 0, [[0]])
-        self.assert_error(InvalidRules, 0, [[0], [0, 1]])
-        self.assert_error(InvalidRules, 0, [[1], [0, 1]])
+        self.assert_wrong(InvalidRules, 0, [[0]])
+        self.assert_wrong(InvalidRules, 0, [[0], [0, 1]])
+        self.assert_wrong(InvalidRules, 0, [[1], [0, 1]])
 
     def test_rules_that_are_not_mixed(self):
         # 0 never leads to 1; 1 never leads to 0; neither to 2; 1 and 2 lead to one another only.
-        self.assert_error(NotMixed, 0, [[0, 0], [0]])
-        self.assert_error(NotMixed, 0, [[0, 1], [1]])
-        self.assert_error(NotMixed, 0, [[0, 1], [1, 0], [0, 1]])
-        self.assert_error(NotMixed, 0, [[0, 1], [2], [1]])
-        self.assert_error(NotMixed, 0, RING[:69] + [[69]])
-        self.assert_error(NotMixed, 0, RING[:68] + [[0], [0]])
+        self.assert_wrong(NotMixed, 0, [[0, 0], [0]])
+        self.assert_wrong(NotMixed, 0, [[0, 1], [1]])
+        self.assert_wrong(NotMixed, 0, [[0, 1], [1, 0], [0, 1]])
+        self.assert_wrong(NotMixed, 0, [[0, 1], [2], [1]])
+        self.assert_wrong(NotMixed, 0, RING[:69] + [[69]])
+        self.assert_wrong(NotMixed, 0, RING[:68] + [[0], [0]])
 
     def test_the_errors_come_in_their_sequence(self):
-        self.assert_error(InvalidRules, 1, [[5], []])
-        self.assert_error(InvalidRules, 2, [[1], [-1], []])
-        self.assert_error(InvalidLetter, 7, [[1], [0, 7]])
-        self.assert_error(InvalidLetter, 7, [[0], [7]])
-        self.assert_error(InvalidRules, 0, [[0], [1]])
-        self.assert_error(InvalidRules, 0, [[1, 1], [1]])
+        self.assert_wrong(InvalidRules, 1, [[5], []])
+        self.assert_wrong(InvalidRules, 2, [[1], [-1], []])
+        self.assert_wrong(InvalidLetter, 7, [[1], [0, 7]])
+        self.assert_wrong(InvalidLetter, 7, [[0], [7]])
+        self.assert_wrong(InvalidRules, 0, [[0], [1]])
+        self.assert_wrong(InvalidRules, 0, [[1, 1], [1]])
 
 
 class RowTest(unittest.TestCase):
