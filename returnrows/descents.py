@@ -1,9 +1,9 @@
 """Descents: the levels of a row, one below the other."""
 
+from returnrows.checks import LAST_LEVEL
 from returnrows.errors import TooMany
 from returnrows.splits import found_returns
 
-LAST_LEVEL = 60
 MOST_LETTERS = 60
 
 
@@ -59,6 +59,14 @@ class Descent:
         key = tuple([tuple(word) for word in words])
         self._firsts.append(self._numbers.setdefault(key, len(self._levels)))
         self._levels.append(words)
+
+
+def descent_to(words, number):
+    """Return the descent of the row of some words, once no level down to a number has too many letters."""
+    descent = Descent(words)
+    for reached in range(number + 1):
+        descent.check(reached)
+    return descent
 
 
 def ladder_of(descent):

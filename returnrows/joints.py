@@ -6,7 +6,7 @@ the place is told by the lengths of what lies ahead.
 """
 
 from returnrows.splits import found_returns
-from returnrows.steps import next_table
+from returnrows.steps import tables_down
 
 
 def first_parting(first, second, number):
@@ -23,7 +23,7 @@ def first_parting(first, second, number):
         found, rules = found_returns(rules)
         other_found, other_rules = found_returns(other_rules)
     letters = max(len(first.words(0)), len(second.words(0)))
-    return _way_up(joints, _weights(joints, letters), found[0], other_found[0])
+    return _way_up(joints, tables_down(joints, letters), found[0], other_found[0])
 
 
 def _joined(found, other_found, other_rules):
@@ -44,29 +44,21 @@ def _joined(found, other_found, other_rules):
     return joint, words
 
 
-def _weights(joints, letters):
-    """Return, level by level, for how many letters of the rows each letter of the level stands."""
-    tables = [[1] * letters]
-    for joint in joints:
-        tables.append(next_table(joint, tables[-1]))
-    return tables
-
-
-def _way_up(joints, weights, part, other_part):
+def _way_up(joints, lengths, part, other_part):
     """Return the place and the two letters at which the rows part.
 
     The level below all joints begins with these two returns.
     """
-    place, letter, other_letter = _unlike(part, other_part, weights[-1])
+    place, letter, other_letter = _unlike(part, other_part, lengths[-1])
     for number in reversed(range(len(joints))):
         joint = joints[number]
-        more, letter, other_letter = _unlike(joint[letter], joint[other_letter], weights[number])
+        more, letter, other_letter = _unlike(joint[letter], joint[other_letter], lengths[number])
         place += more
     return place, letter, other_letter
 
 
 def _unlike(part, other_part, table):
-    """Return the weight of the begin that two unlike returns share, and the two letters behind it.
+    """Return the length of the begin that two unlike returns share, and the two letters behind it.
 
     Behind a return stands a 0, which a return has at its begin alone.
     """

@@ -1,18 +1,14 @@
 """Levels: each one is the row of returns of the one before, and they come again."""
 
-from returnrows.descents import LAST_LEVEL, Descent, ladder_of
-from returnrows.errors import InvalidNumber
+from returnrows.checks import check_level
+from returnrows.descents import Descent, descent_to, ladder_of
 from returnrows.rows import Row
 
 
 def level(row, number):
     """Return the level of a row with a number."""
-    if number < 0 or number > LAST_LEVEL:
-        raise InvalidNumber(number)
-    descent = Descent(row.rules)
-    for reached in range(number + 1):
-        descent.check(reached)
-    return Row(descent.words(number))
+    check_level(number)
+    return Row(descent_to(row.rules, number).words(number))
 
 
 def ladder(row):

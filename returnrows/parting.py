@@ -1,6 +1,7 @@
 """Parting: two rows are equal at all places, or part at a first one."""
 
-from returnrows.descents import LAST_LEVEL, Descent, ladder_of
+from returnrows.checks import LAST_LEVEL
+from returnrows.descents import Descent, ladder_of
 from returnrows.errors import TooMany
 from returnrows.joints import first_parting
 

@@ -1,6 +1,7 @@
 """Periods: a row is periodic exactly if some level of it has one letter alone."""
 
-from returnrows.descents import LAST_LEVEL, Descent
+from returnrows.checks import LAST_LEVEL
+from returnrows.descents import Descent
 from returnrows.errors import TooMany
 from returnrows.steps import step
 

@@ -1,12 +1,13 @@
 """Places: letters, counts and pieces of a row, however far out."""
 
-from returnrows.errors import InvalidLetter, InvalidNumber
-from returnrows.steps import step, tables_beyond, tables_of, way_to
+from returnrows.checks import check_number
+from returnrows.errors import InvalidLetter
+from returnrows.steps import step, tables_beyond, tables_of, way_to, worth
 
 
 def letter_at(row, place):
     """Return the letter at a place of a row."""
-    _check_number(place)
+    check_number(place)
     words = row.rules
     _, letter = way_to(words, _lengths(words, place), place)
     return letter
@@ -17,31 +18,24 @@ def count_to(row, letter, place):
     words = row.rules
     if letter < 0 or letter >= len(words):
         raise InvalidLetter(letter)
-    _check_number(place)
+    check_number(place)
     lengths = _lengths(words, place)
     once = [0] * len(words)
     once[letter] = 1
-    counts = tables_of(words, once, len(lengths))
     passed, _ = way_to(words, lengths, place)
-    return sum([counts[steps][earlier] for steps, earlier in passed])
+    return worth(tables_of(words, once, len(lengths)), passed)
 
 
 def piece(row, place, length):
     """Return the list of so many letters of a row from a place on."""
-    _check_number(place)
-    _check_number(length)
+    check_number(place)
+    check_number(length)
     words = row.rules
     lengths = _lengths(words, place + length)
     letters, ahead = _cut([0], lengths[-1], place, length)
     for table in reversed(lengths[:-1]):
         letters, ahead = _cut(step(words, letters), table, ahead, length)
     return letters
-
-
-def _check_number(number):
-    """Raise an error if a number is negative."""
-    if number < 0:
-        raise InvalidNumber(number)
 
 
 def _lengths(words, place):

@@ -32,6 +32,17 @@ def tables_of(words, first, many):
     return tables
 
 
+def tables_down(lists, letters):
+    """Return the tables of the lengths of the letters of levels, from a level with so many letters on.
+
+    The lists are those of the returns of the levels, one below the other.
+    """
+    tables = [[1] * letters]
+    for parts in lists:
+        tables.append(next_table(parts, tables[-1]))
+    return tables
+
+
 def way_to(words, lengths, place):
     """Return the pairs (steps, letter) whose words one behind the other end at the place, and the letter there.
 
@@ -46,6 +57,11 @@ def way_to(words, lengths, place):
         passed.extend([(steps, earlier) for earlier in word[:many]])
         letter = word[many]
     return passed, letter
+
+
+def worth(tables, passed):
+    """Return what the words of some pairs (steps, letter) are worth in all."""
+    return sum([tables[steps][letter] for steps, letter in passed])
 
 
 def _whole_ahead(word, table, rest):

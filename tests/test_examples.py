@@ -31,6 +31,29 @@ PARTING_AND_PERIODS = '''
 [(3, 0, 1), None, False, True, (1, 0), (0, 0), [0, 1], None, [0], False]
 '''
 
+FAR = '''
+>>> from returnrows.far import return_at, return_place
+>>> from returnrows.rows import Row
+>>> fib = Row([[0, 1], [0]])
+>>> [return_place(fib, 0, 5), return_place(fib, 1, 5), return_at(fib, 1, 6), return_at(fib, 0, 6), return_at(fib, 1, return_place(fib, 1, 10 ** 30))[::2]]
+[5, 8, (3, 0, 1), (6, 1, 0), (1000000000000000000000000000000, 0)]
+'''
+
+BOOKS = '''
+>>> from returnrows.books import Book, SmallBook
+>>> book = Book()
+>>> [book.put([0, 1]), book.put([0]), book.row().rules, book.change(1, [0, 0]), book.rules, len(book), book.story()[-1], book.undo(), book.rules, Book() == SmallBook(3)]
+[None, None, [[0, 1], [0]], None, [[0, 1], [0, 0]], 2, ('change', 1, [0, 0]), None, [[0, 1], [0]], False]
+'''
+
+TEXTS_AND_READINGS = '''
+>>> from returnrows.readings import read_row
+>>> from returnrows.rows import Row
+>>> from returnrows.texts import show_row
+>>> [show_row(Row([[0, 1], [0]])), read_row("0 1, 1 0").rules, read_row("0 0") == Row([[0, 0]])]
+['0 1, 0', [[0, 1], [1, 0]], True]
+'''
+
 
 class ExamplesTest(unittest.TestCase):
     def assert_holds(self, text, name):
@@ -48,6 +71,15 @@ class ExamplesTest(unittest.TestCase):
 
     def test_parting_and_periods(self):
         self.assert_holds(PARTING_AND_PERIODS, "parting and periods")
+
+    def test_far(self):
+        self.assert_holds(FAR, "far")
+
+    def test_books(self):
+        self.assert_holds(BOOKS, "books")
+
+    def test_texts_and_readings(self):
+        self.assert_holds(TEXTS_AND_READINGS, "texts and readings")
 
     def test_readme(self):
         readme = pathlib.Path(__file__).resolve().parent.parent / "README.md"
